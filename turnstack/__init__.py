@@ -1,0 +1,1 @@
+"""Turnstack: fights of cards."""
