@@ -1,6 +1,6 @@
 import unittest
 
-from turnstack.cards import read_card, show_card
+from turnstack.cards import copied, read_card, show_card
 from turnstack.errors import NoCard
 
 WOLF = ("wolf 2 3 fast,grey / hold more 1 both mine mark grey / when leave self do each lose 2 not mine"
@@ -40,6 +40,24 @@ def all_deeds():
                 amounts = [(" 0", 0), (" 7", 7), (" 999", 999)]
             for words, amount in amounts:
                 yield f"{each} {kind}{words} not self", (each, kind, amount, ("whom", "not self"))
+
+
+class Same(unittest.TestCase):
+    def test_cards_are_the_same_where_their_texts_are(self):
+        self.assertEqual(read_card(WOLF), read_card(WOLF))
+        for other in (WOLF.replace("wolf", "fox"), WOLF.replace("2 3", "2 4"), WOLF.replace("not self", "all")):
+            self.assertNotEqual(read_card(WOLF), read_card(other))
+
+    def test_a_card_is_not_its_text(self):
+        self.assertNotEqual(read_card(WOLF), WOLF)
+        self.assertNotEqual(read_card(WOLF), None)
+
+    def test_a_copy_is_apart(self):
+        card = read_card(WOLF)
+        other = copied(card)
+        self.assertEqual((show_card(other), other), (WOLF, card))
+        other.name, other.cost, other.force, other.marks, other.rules = "x", 9, 9, (), ()
+        self.assertEqual(show_card(card), WOLF)
 
 
 class CardTest(unittest.TestCase):

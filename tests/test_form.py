@@ -94,6 +94,35 @@ class Form(unittest.TestCase):
         self.none_of([(n, node) for n, node in self.of(ast.Name)
                       if hasattr(builtins, node.id) and node.id not in OWN_NAMES])
 
+    def test_no_local_is_called_like_an_import_or_a_class(self):
+        for name, tree in self.trees.items():
+            taken = {alias.name for node in tree.body if isinstance(node, ast.ImportFrom) for alias in node.names}
+            taken |= {node.name for node in tree.body if isinstance(node, ast.ClassDef)}
+            names = [node for node in ast.walk(tree) if isinstance(node, ast.Name)]
+            bound = {node.id for node in names if isinstance(node.ctx, ast.Store)}
+            bound |= {node.arg for node in ast.walk(tree) if isinstance(node, ast.arg)}
+            self.assertEqual(bound & taken, set(), name)
+
+    def test_no_two_files_draw_from_one_another(self):
+        draws = {name[:-3]: {node.module.split(".")[-1] for node in tree.body if isinstance(node, ast.ImportFrom)}
+                 for name, tree in self.trees.items()}
+        for _ in draws:
+            draws = {name: files.union(*[draws.get(file, set()) for file in files]) for name, files in draws.items()}
+        self.assertEqual([name for name, files in draws.items() if name in files], [])
+
+    def test_a_name_comes_from_the_file_that_defines_it(self):
+        for name, node in self.of(ast.ImportFrom):
+            tree = self.trees[node.module.split(".")[-1] + ".py"]
+            defined = {one.name for one in tree.body if isinstance(one, (ast.FunctionDef, ast.ClassDef))}
+            defined |= {target.id for one in tree.body if isinstance(one, ast.Assign) for target in one.targets}
+            self.assertEqual({alias.name for alias in node.names} - defined, set(), name)
+
+    def test_walked_at_once(self):
+        for name, node in self.of(ast.Assign, ast.Return):
+            if isinstance(node.value, ast.Call):
+                word = getattr(node.value.func, "id", getattr(node.value.func, "attr", ""))
+                self.assertNotIn(word, ("zip", "enumerate", "reversed", "range", "items", "keys", "values"), name)
+
     def test_methods(self):
         known = self.own_methods() | METHODS
         self.none_of([(n, node) for n, node in self.of(ast.Call)

@@ -32,6 +32,15 @@ class Card:
         self.marks = marks
         self.rules = rules
 
+    def __eq__(self, other):
+        # Cards are told as copies: two that have the same text are the same card to whoever compares them.
+        return isinstance(other, Card) and show_card(self) == show_card(other)
+
+
+def copied(card):
+    """A card of the same values, so that who changes it changes no other one."""
+    return Card(card.name, card.cost, card.force, card.marks, card.rules)
+
 
 def read_card(text):
     """The card that a text tells."""

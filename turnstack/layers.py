@@ -27,16 +27,16 @@ def reach(lying, sight, change):
     asker = row_of(sight, change[2])
     if asker[4]:
         return []
-    rule = rule_of(lying, change)
+    rule = rule_of(lying, change[2], change[3])
     fitting = numbers_fitting(sight, rule[3], asker)
     amount = amount_of(sight, rule, asker)
     return [(number, amount) for number in fitting]
 
 
-def rule_of(lying, change):
-    """The hold rule that a change is."""
-    rules = [row[1].rules for row in lying if row[0] == change[2]]
-    return rules[0][change[3]]
+def rule_of(lying, number, place):
+    """The rule of a lying card that stands at a place."""
+    rules = [row[1].rules for row in lying if row[0] == number]
+    return rules[0][place]
 
 
 def numbers_fitting(sight, whom, asker):
@@ -59,7 +59,7 @@ def amount_of(sight, rule, asker):
 
 def behind(lying, sight, change):
     """The sight that a change makes of a sight."""
-    word = rule_of(lying, change)[1]
+    word = rule_of(lying, change[2], change[3])[1]
     amounts = dict(reach(lying, sight, change))
     return [changed(row, word, amounts[row[0]]) if row[0] in amounts else row for row in sight]
 
@@ -71,12 +71,22 @@ def changed(row, word, amount):
     if word == "steal":
         return row[:1] + (amount,) + row[2:]
     if word == "gain":
-        return row[:2] + (tuple(sorted(set(row[2] + (amount,)))),) + row[3:]
+        return row[:2] + (joined(row[2], amount),) + row[3:]
     if word == "lack":
-        return row[:2] + (tuple([mark for mark in row[2] if mark != amount]),) + row[3:]
+        return row[:2] + (without(row[2], amount),) + row[3:]
     if word == "be":
         return row[:3] + (amount,) + row[4:]
     return row[:3] + (row[3] + amount,) + row[4:]
+
+
+def joined(values, one):
+    """A tuple with one among its values, rising, each once."""
+    return tuple(sorted(set(values + (one,))))
+
+
+def without(values, one):
+    """A tuple without one of its values; the others stay in their order."""
+    return tuple([value for value in values if value != one])
 
 
 def leans(lying, sight, one, other):
