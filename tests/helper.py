@@ -504,6 +504,44 @@ class PlainFight:
             self.over = ("full",)
 
 
+def plain_of(fight):
+    """A fight told a second time, from the stand on at which it is."""
+    table, pile, turn, word, passes, coins, over = fight.stand()
+    plain = PlainFight(fight.cards(), fight.owners(), table)
+    plain.pile, plain.turn, plain.word, plain.passes = list(pile), turn, word, passes
+    plain.coins, plain.over = list(coins), over
+    return plain
+
+
+def unscored(stand):
+    """A stand without its scores."""
+    return stand[0][:1] + stand[0][2:], stand[1:]
+
+
+def whole(fight):
+    """All that a fight tells of itself."""
+    return (fight.stand(), fight.log(), fight.many(), fight.owners(), plain_cards(fight.cards()),
+            [fight.may_do(player) for player in range(4)])
+
+
+def do(fight, deed):
+    """A deed as a tuple: the method's name and what is handed to it."""
+    getattr(fight, deed[0])(*deed[1:])
+
+
+def random_deed(rng, fight):
+    """A deed that the one who has the word may do; None where he may do nothing."""
+    word = of_stand(fight, "word")
+    deeds = fight.may_do(word)
+    if not deeds:
+        return None
+    others = [deed for deed in deeds if deed != ("let",)]
+    if others and rng.random() < (0.7 if len(of_stand(fight, "pile")) < 3 else 0.15):
+        deed = rng.choice(others)
+        return (deed[0], word) + deed[1:]
+    return rng.choice((("let", word), ("let", word, random_choices(rng))))
+
+
 def fight_whom(rng):
     return whom_text(random_whom(rng, rng.choice((0, 0, 1, 2))))
 

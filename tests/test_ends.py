@@ -142,6 +142,19 @@ class Going(unittest.TestCase):
         self.assertEqual((of_stand(fight, "gone"), of_stand(fight, "heap")), ((True, False, False), (0,)))
         self.assertEqual((of_stand(fight, "over"), of_stand(fight, "word")), (None, 2))
 
+    def test_a_rule_that_waits_of_a_card_that_another_one_owns(self):
+        # The player 1 uses a rule of the card 0, which he stole; he goes, and the card lies on.
+        fight = Fight([["a 0 9 t / may 0 do each score 1 mine"], ["b 0 9 - / hold steal mark t"], [self.STRIKE]])
+        come_in_turns(fight, (0, 1, 2))
+        fight.let(2)
+        fight.let(0)
+        fight.use(1, 0, 0)
+        fight.let(1)
+        fight.use(2, 2, 0)
+        all_let(fight, [1])
+        self.assertEqual((of_stand(fight, "gone"), of_stand(fight, "pile")), ((False, True, False), ()))
+        self.assertEqual((of_stand(fight, "lying"), of_stand(fight, "heap")), ((0, 2), (1,)))
+
     def test_what_was_called_for_him_is_not_piled(self):
         see = "a 0 9 - / when lose all do each score 1 mine"
         fight = Fight([[see], [see], [see, self.STRIKE]])

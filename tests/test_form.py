@@ -117,6 +117,28 @@ class Form(unittest.TestCase):
             defined |= {target.id for one in tree.body if isinstance(one, ast.Assign) for target in one.targets}
             self.assertEqual({alias.name for alias in node.names} - defined, set(), name)
 
+    def test_lists_and_dicts_of_a_file_s_top_are_only_read(self):
+        for name, tree in self.trees.items():
+            tops = {target.id for one in tree.body if isinstance(one, ast.Assign) for target in one.targets
+                    if isinstance(one.value, (ast.List, ast.Dict))}
+            above = {below: node for node in ast.walk(tree) for below in ast.iter_child_nodes(node)}
+            for node in ast.walk(tree):
+                if isinstance(node, ast.Name) and node.id in tops and isinstance(node.ctx, ast.Load):
+                    over = above[node]
+                    if isinstance(over, ast.Subscript):
+                        self.assertIsInstance(over.ctx, ast.Load, (name, node.lineno))
+                    elif isinstance(over, ast.Call):
+                        self.assertIn(getattr(over.func, "id", ""), ("list", "dict", "tuple", "sorted", "len"))
+                    elif isinstance(over, ast.Attribute):
+                        self.assertIn(over.attr, ("get", "items", "keys", "values", "index", "count"))
+                    else:
+                        self.assertIsInstance(over, (ast.Compare, ast.For, ast.comprehension), (name, node.lineno))
+
+    def test_errors_of_python_s_own_are_not_taken(self):
+        own = {node.name for _, node in self.of(ast.ClassDef)}
+        for name, node in self.of(ast.ExceptHandler):
+            self.assertIn(getattr(node.type, "id", None), own, (name, node.lineno))
+
     def test_walked_at_once(self):
         for name, node in self.of(ast.Assign, ast.Return):
             if isinstance(node.value, ast.Call):

@@ -231,7 +231,8 @@ class Called(unittest.TestCase):
         self.assertEqual(self.calls(texts, (0,), ("hurt", 0, 1)), [])
 
     def test_leave_in_the_sight_ahead(self):
-        texts = ["a 1 5 - / hold gain n all / when leave self do each leave all / when leave not self do each leave all",
+        texts = ["a 1 5 - / hold gain n all / when leave self do each leave all"
+                 " / when leave not self do each leave all",
                  "b 1 5 - / when leave mark n do each draw 1 mine", "c 1 5 - / when leave force 5 do each draw 1 mine"]
         self.assertEqual(self.calls(texts, (0, 1, 1), ("leave", 0, 0)), [(0, 0, 1), (1, 1, 0), (1, 2, 0)])
 

@@ -150,9 +150,13 @@ def take_amount(words, kind):
 
 def show_card(card):
     """The text that a card was read from."""
-    marks = ",".join(card.marks) if card.marks else "-"
-    head = " ".join([card.name, str(card.cost), str(card.force), marks])
+    head = " ".join([card.name, str(card.cost), str(card.force), show_marks(card.marks)])
     return " / ".join([head] + [show_rule(rule) for rule in card.rules])
+
+
+def show_marks(marks):
+    """The one word that tells marks."""
+    return ",".join(marks) if marks else "-"
 
 
 def show_rule(rule):

@@ -86,3 +86,7 @@ class Fight:
 
     def many(self):
         return len(self.past)
+
+    def deeds(self):
+        """The deeds that were done and not taken back, each as a tuple that begins with its word."""
+        return [deed for deed, stand in self.past]

@@ -23,7 +23,7 @@ def look(cards, owners, table, choices):
     table = with_gone(cards, owners, table)
     sight = sight_of(cards, owners, table)
     leavings = [("leave", row[0], 0) for row in sight if table[WOUNDS][row[0]] >= row[3]]
-    return put_all(cards, owners, table, leavings, choices)
+    return put_all(cards, owners, table, sight, leavings, choices)
 
 
 def with_gone(cards, owners, table):

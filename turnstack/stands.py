@@ -2,7 +2,7 @@
 
 from turnstack.layers import without
 from turnstack.looks import looked
-from turnstack.table import GONE, HANDS, SCORES, called, done, happen, put_all, put_away, replaced, with_value
+from turnstack.table import GONE, HANDS, SCORES, done, done_to, put_all, put_away, replaced, sight_of, with_value
 from turnstack.turns import chosen
 
 PLACES = 40
@@ -61,7 +61,7 @@ def let_go(cards, owners, stand, choices):
         outcome = top_done(cards, owners, table, pile[-1], choices)
         return settled(cards, owners, outcome, pile[:-1], turn, word, coins)
     turn = players_from(table, turn + 1)[0]
-    outcome = put_all(cards, owners, table, [("draw", -1 - turn, 1)], choices)
+    outcome = put_all(cards, owners, table, sight_of(cards, owners, table), [("draw", -1 - turn, 1)], choices)
     return settled(cards, owners, outcome, pile, turn, word, replaced(coins, turn, TURN_COINS))
 
 
@@ -72,8 +72,8 @@ def top_done(cards, owners, table, top, choices):
         rule = cards[number].rules[place]
         return done(cards, owners, table, rule[DEED_PLACES[rule[0]]], number, player, choices)
     happening = ("come", number, 0)
-    calls = called(cards, owners, table, happening)
-    return (happen(cards, table, happening), [(happening, [], happening)], calls, list(choices))
+    then, sight, calls = done_to(cards, owners, table, sight_of(cards, owners, table), happening)
+    return (then, [(happening, [], happening)], calls, list(choices))
 
 
 def settled(cards, owners, outcome, pile, turn, word, coins):

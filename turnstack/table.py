@@ -142,11 +142,22 @@ def called(cards, owners, table, happening):
     """The when rules that a happening calls which is about to be done to a table, as (keeper, number, place)."""
     if not happens(table, happening):
         return []
+    return done_to(cards, owners, table, sight_of(cards, owners, table), happening)[2]
+
+
+def done_to(cards, owners, table, sight, happening):
+    """The table and its sight behind a happening that happens, and what it calls."""
+    then = happen(cards, table, happening)
+    then_sight = sight
+    # Only what lies and its marks make a sight; it is told anew just where these are others, since that takes long.
+    if (then[LYING], then[MARKS]) != (table[LYING], table[MARKS]):
+        then_sight = sight_of(cards, owners, then)
     # A card that leaves is asked while it lies: it may call its own rules.
-    if happening[0] != "leave":
-        table = happen(cards, table, happening)
-    meant = rules_meant(rows_of(cards, owners, table), sight_of(cards, owners, table), "when", happening)
-    return [(keeper, number, place) for came, place, number, keeper in meant]
+    if happening[0] == "leave":
+        meant = rules_meant(rows_of(cards, owners, table), sight, "when", happening)
+    else:
+        meant = rules_meant(rows_of(cards, owners, then), then_sight, "when", happening)
+    return (then, then_sight, [(keeper, number, place) for came, place, number, keeper in meant])
 
 
 def done(cards, owners, table, deed, number, keeper, choices):
@@ -158,7 +169,7 @@ def done(cards, owners, table, deed, number, keeper, choices):
     if each == "one" and ways:
         way, left = chosen(len(ways), left)
         ways = [ways[way]]
-    return put_all(cards, owners, table, [(kind, thing, amount) for thing in ways], left)
+    return put_all(cards, owners, table, sight, [(kind, thing, amount) for thing in ways], left)
 
 
 def things_of(table, kind):
@@ -168,17 +179,16 @@ def things_of(table, kind):
     return sorted(table[LYING])
 
 
-def put_all(cards, owners, table, happenings, choices):
+def put_all(cards, owners, table, sight, happenings, choices):
     """As done, of happenings that are put in place and done one behind the other, each if its card lies still."""
     log = []
     calls = []
     left = list(choices)
     for happening in happenings:
         if happens(table, happening):
-            rows = rows_of(cards, owners, table)
-            trail, came, left = put_in_place(rows, sight_of(cards, owners, table), happening, left)
+            trail, came, left = put_in_place(rows_of(cards, owners, table), sight, happening, left)
             log.append((happening, trail, came))
             if came is not None:
-                calls.extend(called(cards, owners, table, came))
-                table = happen(cards, table, came)
+                table, sight, more = done_to(cards, owners, table, sight, came)
+                calls.extend(more)
     return (table, log, calls, left)

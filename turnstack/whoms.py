@@ -17,7 +17,12 @@ def is_name(word):
 
 def is_number(word):
     """Whether a text is one to three figures, no 0 ahead but in 0 itself."""
-    if not 1 <= len(word) <= 3 or not all([sign in FIGURES for sign in word]):
+    return is_whole(word, 3)
+
+
+def is_whole(word, most):
+    """Whether a text is one to so many figures, no 0 ahead but in 0 itself."""
+    if not 1 <= len(word) <= most or not all([sign in FIGURES for sign in word]):
         return False
     return word == "0" or word[0] != "0"
 
